@@ -1,0 +1,59 @@
+"""The package keeps to LANGUAGE.md, as far as tests/language.py can see it."""
+
+import os
+import unittest
+
+from tests.language import faults_of, package_sources
+
+FOLDER = os.path.join(os.path.dirname(os.path.dirname(os.path.abspath(__file__))), "listasks")
+
+
+def rules_of(*texts):
+    sources = {f"part{number}.py": text for number, text in enumerate(texts)}
+    return [fault.split(" ")[1] for fault in faults_of(sources)]
+
+
+class PackageTest(unittest.TestCase):
+    def test_the_package_has_no_fault(self):
+        self.assertEqual(faults_of(package_sources(FOLDER)), [])
+
+    def test_the_folder_holds_python_files_alone(self):
+        names = [name for name in os.listdir(FOLDER) if name != "__pycache__"]
+        self.assertIn("__init__.py", names)
+        self.assertTrue(all(name.endswith(".py") for name in names))
+        self.assertLessEqual(len(names), 100)
+
+
+class ReaderTest(unittest.TestCase):
+    def test_good_code_has_no_fault(self):
+        self.assertEqual(rules_of('"""A file."""\n\nMOST = 4\n\n\ndef most(xs):\n    return len(xs) < MOST\n'), [])
+
+    def test_faults_are_found(self):
+        cases = (
+            ("import os\n", "L6"),
+            ("X = [[1]]\n", "L3"),
+            ("def f(xs):\n    return any(x for x in xs)\n", "L7"),
+            ("def f(xs):\n    return xs / 2\n", "L7"),
+            ("def f(xs):\n    r = zip(xs, xs)\n    return r\n", "L23"),
+            ("def f(xs):\n    for x in xs:\n        xs.append(x)\n", "L23"),
+            ("def f(xs):\n    xs.sort()\n", "L25"),
+            ("def f(id):\n    return id\n", "L17"),
+            ("def f(x):\n    return hash(x)\n", "L8"),
+            ("def f(x):\n    return x is f\n", "L20"),
+            ("def f(x):\n    return '50%'\n", "L27"),
+            ("def f(x):\n    for y in {1, 2}:\n        return y\n", "L24"),
+            ("def f(x):\n    try:\n        return x[0]\n    except IndexError:\n        return 0\n", "L19"),
+            ("def f(x):\n" + "    x = x + 1\n" * 40, "L10"),
+        )
+        for text, rule in cases:
+            with self.subTest(text=text):
+                self.assertIn(rule, rules_of(text))
+
+    def test_two_files_do_not_import_from_each_other(self):
+        one = "from listasks.part1 import g\n\n\ndef f(x):\n    return g(x)\n"
+        two = "from listasks.part0 import f\n\n\ndef g(x):\n    return f(x)\n"
+        self.assertIn("L16", rules_of(one, two))
+
+
+if __name__ == "__main__":
+    unittest.main()
