@@ -65,7 +65,7 @@ def _checked_kind(kind, room):
     """Return the kind in tuples if it is nested at most `room` deep."""
     if room == 0:
         raise BadKind()
-    if isinstance(kind, str) and is_base(kind):
+    if is_base(kind):
         return kind
     if not is_sequence(kind) or len(kind) < 2:
         raise BadKind()
@@ -112,14 +112,12 @@ def kind_head(kind):
 
 
 def kind_of_head(head, parts):
-    """Return the kind that has this head and these kinds directly within it."""
-    word, more = head
+    """Return the kind, no open place, that has this head and these kinds directly within it."""
+    word, labels = head
     if word in BASE_KINDS:
         return word
     if word == "record":
-        return ("record", tuple(zip(more, parts)))
-    if word == "any":
-        return head
+        return ("record", tuple(zip(labels, parts)))
     return (word, *parts)
 
 

@@ -135,11 +135,7 @@ def check_term(term):
 
 
 def _in_tuples(node, parts):
-    word = node[0]
-    if word == "record":
-        labels = [label for label, _ in node[1]]
-        return ("record", tuple(zip(labels, parts)))
-    if word == "as":
+    if node[0] == "as":
         return ("as", parts[0], check_kind(node[2]))
     return with_children(tuple(node), parts)
 
@@ -290,8 +286,6 @@ def _same_node(left, right, names, others):
     if left[0] == "name":
         level = _level(left[1], names)
         return level == _level(right[1], others) and (level >= 0 or left[1] == right[1])
-    if left[0] in _BINDERS:
-        return True
     if left[0] == "record":
         return [label for label, _ in left[1]] == [label for label, _ in right[1]]
     if left[0] == "field" or left[0] == "as":

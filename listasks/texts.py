@@ -1,7 +1,7 @@
 """The texts of kinds, terms, heads, stores and programs, written and read."""
 
 from listasks.errors import BadForm
-from listasks.kinds import check_kind, is_base, is_integer, is_name, kind_head, kind_of_head, kind_parts
+from listasks.kinds import check_kind, is_base, is_integer, is_name, kind_head, kind_parts
 from listasks.stores import Store, check_heads
 from listasks.terms import ROLES, check_term, children
 from listasks.walks import fold
@@ -50,8 +50,6 @@ def _form_of_term(term, forms):
     word = term[0]
     if word == "number" or word == "name":
         return term[1]
-    if word == "text":
-        return term
     if word == "truth":
         return ("truth", _yes_or_no(term[1]))
     if word == "record":
@@ -126,7 +124,7 @@ def _is_anything(form):
 
 def _kinds_in(form):
     """Return the forms of kinds within what is read as a kind, or None if it is none itself."""
-    if isinstance(form, str) and is_base(form):
+    if is_base(form):
         return ()
     if _begins(form, "list") and len(form) == 2:
         return form[1:]
@@ -146,9 +144,9 @@ def _is_kind_form(form):
 def _kind_made(form, kinds):
     if _begins(form, "record"):
         return ("record", tuple(zip(form[1::2], kinds)))
-    if isinstance(form, str):
+    if is_base(form) or form[0] == "any":
         return form
-    return form if form[0] == "any" else kind_of_head((form[0], ()), kinds)
+    return (form[0], *kinds)
 
 
 def _built_kind(form):
@@ -170,8 +168,6 @@ def _terms_in(form):
     if not isinstance(form, tuple) or len(form) == 0 or not isinstance(form[0], str):
         return None
     word = form[0]
-    if word == "text":
-        return () if len(form) == 2 and isinstance(form[1], str) else None
     if word == "truth":
         return () if form == ("truth", "yes") or form == ("truth", "no") else None
     if word == "record":
@@ -205,8 +201,6 @@ def _term_made(form, terms):
     if isinstance(form, str):
         return ("name", form)
     word = form[0]
-    if word == "text":
-        return form
     if word == "truth":
         return ("truth", form[1] == "yes")
     if word == "record":
@@ -244,11 +238,7 @@ def heads_of_form(form):
 
 
 def _is_cell_form(form):
-    return is_integer(form) or form == "yes" or form == "no" or _is_text_form(form)
-
-
-def _is_text_form(form):
-    return _begins(form, "text") and len(form) == 2 and isinstance(form[1], str)
+    return is_integer(form) or form == "yes" or form == "no" or _begins(form, "text")
 
 
 def _is_cells_form(form):

@@ -176,6 +176,8 @@ class StoreTest(unittest.TestCase):
         for thing in (None, 1, HEADS, (), "store"):
             self.assertIs(self.store == thing, False)
         self.assertFalse(Store(HEADS) == Store(HEADS[:1]))
+        self.assertFalse(Store((("t", couples(1)),)) == Store((("t", couples(2)),)))
+        self.assertTrue(Store((("t", couples(2)),)) == Store([["t", listed(couples(2))[::-1]]]))
 
 
 class FromRowsTest(unittest.TestCase):

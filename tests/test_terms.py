@@ -20,7 +20,7 @@ from listasks.terms import (
     with_children,
 )
 from tests.helping import listed, nested, refusal
-from tests.making import any_term, unnamed
+from tests.making import any_term, apart, unnamed
 
 ONE = ("number", 1)
 X, Y, Z = ("name", "x"), ("name", "y"), ("name", "z")
@@ -307,6 +307,16 @@ class NamesTest(unittest.TestCase):
             self.assertEqual(same, unnamed(one) == unnamed(other))
             self.assertIs(same_term(one, one), True)
         self.assertEqual(seen, {True, False})
+
+    def test_same_term_but_for_the_names_it_binds(self):
+        chance = random.Random(21)
+        for _ in range(2000):
+            term = any_term(chance, 5)
+            other = apart(term)
+            self.assertIs(same_term(term, other), True)
+            self.assertIs(same_term(other, term), True)
+            for name in free_names(term):
+                self.assertIs(same_term(term, renamed(other, name, "w")), False)
 
 
 def unnamed_with(term, name, part, around=()):

@@ -51,6 +51,8 @@ class KindsTest(unittest.TestCase):
         (("list", "int"), "(list int)"), (("record", ()), "(record)"),
         (("record", (("a", "int"), ("text", ("list", "text")))), "(record a int text (list text))"),
         (("function", ("any", 0), ("list", ("any", 0))), "(function (any 0) (list (any 0)))"),
+        (("list", ("record", (("a", "int"),))), "(list (record a int))"),
+        (("function", ("record", (("a", "int"),)), "int"), "(function (record a int) int)"),
     )
 
     def test_there_and_back(self):
@@ -90,7 +92,8 @@ class TermsTest(unittest.TestCase):
         (("number", -4), "-4"), (("text", "a b"), '"a b"'), (("truth", True), "(truth yes)"),
         (("truth", False), "(truth no)"), (X, "x"), (("name", "text"), "text"), (("none",), "(none)"),
         (("table", "emp"), "(table emp)"), (("fn", "x", Y), "(fn x y)"), (("field", X, "a"), "(field x a)"),
-        (("as", X, ("list", "int")), "(as x (list int))"), (("one", X), "(one x)"), (("not", X), "(not x)"),
+        (("as", X, ("list", "int")), "(as x (list int))"),
+        (("as", X, ("list", ("record", (("a", "int"),)))), "(as x (list (record a int)))"), (("one", X), "(one x)"), (("not", X), "(not x)"),
         (("empty", X), "(empty x)"), (("count", X), "(count x)"), (("total", X), "(total x)"),
         (("let", "x", Y, X), "(let x y x)"), (("for", "x", Y, X), "(for x y x)"),
         (("use", X, Y), "(use x y)"), (("join", X, Y), "(join x y)"), (("where", X, Y), "(where x y)"),
@@ -191,6 +194,13 @@ class StoresTest(unittest.TestCase):
             self.store.put("dept", (name,))
         self.store.take("dept", 2)
         self.store.put("emp", (-5, True, "ann"))
+
+    def test_truths(self):
+        heads = (("t", (("a", "truth"), ("b", "text"))),)
+        text = '(store (tables t (columns a truth b text)) (rows 3 1 (cells yes "no") 2 (cells no "yes")))'
+        store = store_of(text)
+        self.assertEqual(store.rows_of("t"), ((1, (True, "no")), (2, (False, "yes"))))
+        self.assertEqual((store.heads, store_text(store)), (heads, text))
 
     def test_there_and_back(self):
         self.assertEqual(store_text(self.store), STORE_TEXT)
