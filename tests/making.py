@@ -1,5 +1,8 @@
 """Terms made by chance, from a seed: the same ones in every run."""
 
+from listasks.stores import Store
+from listasks.terms import depth_of, nodes_of
+
 LABELS = ("a", "b", "c")
 ONE_PART = ("one", "not", "empty", "count", "total")
 TWO_PARTS = ("use", "join", "where", "plus", "minus", "times", "equal", "less", "and", "or")
@@ -47,14 +50,15 @@ def unnamed(term, around=()):
         return (word, unnamed(term[2], around), unnamed(term[3], around + (term[1],)))
     if word == "record":
         return ("record", tuple((label, unnamed(part, around)) for label, part in term[1]))
-    return tuple(unnamed(part, around) if isinstance(part, tuple) and word != "as" else part for part in term) \
-        if word != "as" else ("as", unnamed(term[1], around), term[2])
+    if word == "as":
+        return ("as", unnamed(term[1], around), term[2])
+    return tuple(unnamed(part, around) if isinstance(part, tuple) else part for part in term)
 
 
 def apart(term, names=None, count=None):
     """The same term with bound names u1, u2, .. that are all unlike."""
-    names = names or {}
-    count = count if count is not None else [0]
+    names = {} if names is None else names
+    count = [0] if count is None else count
     word = term[0]
     if word == "name":
         return ("name", names.get(term[1], term[1]))
@@ -65,8 +69,9 @@ def apart(term, names=None, count=None):
         return (word, new, *ahead, apart(term[-1], {**names, term[1]: new}, count))
     if word == "record":
         return ("record", tuple((label, apart(part, names, count)) for label, part in term[1]))
-    return tuple(apart(part, names, count) if isinstance(part, tuple) and part and part[0] != "list" else part
-                 for part in term)
+    if word == "as":
+        return ("as", apart(term[1], names, count), term[2])
+    return tuple(apart(part, names, count) if isinstance(part, tuple) else part for part in term)
 
 
 HEADS = (("dept", (("name", "text"),)), ("emp", (("age", "int"), ("boss", "truth"), ("who", "text"))))
@@ -144,10 +149,8 @@ def term_of_kind(chance, kind, names, deep, defined=True):
         return ("field", more(("record", tuple(fields.items()))), "a")
     if pick == 4:
         return ("as", more(kind), kind)
-    if pick == 5 and defined:
-        fits = [(function, given) for function, given, made in USES if case(kind, made) is not None]
-        if fits:
-            return used_definition(chance, kind, more)
+    if pick == 5 and defined and any(case(kind, made) is not None for _, _, made in USES):
+        return used_definition(chance, kind, more)
     return term_by_kind(chance, kind, name, more)
 
 
@@ -216,7 +219,6 @@ ANSWER_KINDS = (
 
 def any_asking(chance, deep=5, defined=True):
     """An asking, small enough to be let by, that fits HEADS and DEFINITIONS."""
-    from listasks.terms import depth_of, nodes_of
     while True:
         names = {"emps": ("list", ROW_KINDS["emp"])} if defined else {}
         term = term_of_kind(chance, chance.choice(ANSWER_KINDS), names, deep, defined)
@@ -225,7 +227,6 @@ def any_asking(chance, deep=5, defined=True):
 
 
 def any_store(chance):
-    from listasks.stores import Store
     store = Store(HEADS)
     for _ in range(chance.randrange(4)):
         store.put("dept", (chance.choice("ab"),))
