@@ -8,7 +8,7 @@ from listasks.kindsfound import closed_kinds, found_kind, is_case_of, kinds_with
 from listasks.terms import check_term, free_names
 from listasks.texts import kind_of, kind_text, term_of
 from tests import kindsref
-from tests.helping import nested, refusal
+from tests.helping import listed, nested, refusal
 from tests.making import any_term
 
 HEADS = (("dept", (("name", "text"),)), ("emp", (("age", "int"), ("boss", "truth"), ("who", "text"))))
@@ -389,6 +389,17 @@ def any_kind(chance, deep):
     if word == "record":
         return ("record", tuple((label, any_kind(chance, deep - 1)) for label in "ab"))
     return ("function", any_kind(chance, deep - 1), any_kind(chance, deep - 1))
+
+
+class PassedListsTest(unittest.TestCase):
+    def test_they_are_neither_changed_nor_kept(self):
+        heads, known, choices = listed(HEADS), [["dup", DUP_KIND], ["n", "int"]], ["int", "text"]
+        term = term_of("(for e (table emp) (use dup (field e who)))")
+        told = kinds_within(heads, known, term)
+        self.assertEqual((heads, known), (listed(HEADS), [["dup", DUP_KIND], ["n", "int"]]))
+        self.assertEqual(told, kinds_within(HEADS, (("dup", DUP_KIND), ("n", "int")), term))
+        self.assertEqual(put_in(("function", ("any", 1), ("any", 0)), choices), ("function", "text", "int"))
+        self.assertEqual(choices, ["int", "text"])
 
 
 class ExampleTest(unittest.TestCase):
