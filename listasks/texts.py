@@ -5,7 +5,7 @@ from listasks.kinds import check_kind, is_base, is_integer, is_name, kind_head, 
 from listasks.stores import Store, check_heads
 from listasks.terms import ROLES, check_term, children
 from listasks.walks import fold
-from listasks.words import print_form, read_form
+from listasks.words import begins_with, print_form, read_form
 
 
 def kind_form(kind):
@@ -95,10 +95,6 @@ def program_form(program):
     return ("program", heads_form(program.heads), defined, term_form(program.asking))
 
 
-def _begins(form, word):
-    return isinstance(form, tuple) and len(form) > 0 and form[0] == word
-
-
 def _has_shape(form, inner):
     """Tell whether inner, which tells the forms within a good one, finds no form bad."""
     todo = [form]
@@ -126,13 +122,13 @@ def _kinds_in(form):
     """Return the forms of kinds within what is read as a kind, or None if it is none itself."""
     if is_base(form):
         return ()
-    if _begins(form, "list") and len(form) == 2:
+    if begins_with(form, "list") and len(form) == 2:
         return form[1:]
-    if _begins(form, "function") and len(form) == 3:
+    if begins_with(form, "function") and len(form) == 3:
         return form[1:]
-    if _begins(form, "record") and _are_couples(form, is_name, _is_anything):
+    if begins_with(form, "record") and _are_couples(form, is_name, _is_anything):
         return form[2::2]
-    if _begins(form, "any") and len(form) == 2 and is_integer(form[1]):
+    if begins_with(form, "any") and len(form) == 2 and is_integer(form[1]):
         return ()
     return None
 
@@ -142,7 +138,7 @@ def _is_kind_form(form):
 
 
 def _kind_made(form, kinds):
-    if _begins(form, "record"):
+    if begins_with(form, "record"):
         return ("record", tuple(zip(form[1::2], kinds)))
     if is_base(form) or form[0] == "any":
         return form
@@ -219,11 +215,11 @@ def term_of_form(form):
 
 
 def _is_columns_form(form):
-    return _begins(form, "columns") and _are_couples(form, is_name, is_base)
+    return begins_with(form, "columns") and _are_couples(form, is_name, is_base)
 
 
 def _is_heads_form(form):
-    return _begins(form, "tables") and _are_couples(form, is_name, _is_columns_form)
+    return begins_with(form, "tables") and _are_couples(form, is_name, _is_columns_form)
 
 
 def _built_heads(form):
@@ -238,15 +234,15 @@ def heads_of_form(form):
 
 
 def _is_cell_form(form):
-    return is_integer(form) or form == "yes" or form == "no" or _begins(form, "text")
+    return is_integer(form) or form == "yes" or form == "no" or begins_with(form, "text")
 
 
 def _is_cells_form(form):
-    return _begins(form, "cells") and all([_is_cell_form(item) for item in form[1:]])
+    return begins_with(form, "cells") and all([_is_cell_form(item) for item in form[1:]])
 
 
 def _is_lot_form(form):
-    if not _begins(form, "rows") or len(form) < 2 or not is_integer(form[1]):
+    if not begins_with(form, "rows") or len(form) < 2 or not is_integer(form[1]):
         return False
     return _are_couples(form[1:], is_integer, _is_cells_form)
 
@@ -263,7 +259,7 @@ def _built_lot(form):
 
 
 def store_of_form(form):
-    if not _begins(form, "store") or len(form) < 2 or not _is_heads_form(form[1]):
+    if not begins_with(form, "store") or len(form) < 2 or not _is_heads_form(form[1]):
         raise BadForm("store")
     if not all([_is_lot_form(item) for item in form[2:]]):
         raise BadForm("store")
@@ -271,11 +267,11 @@ def store_of_form(form):
 
 
 def _is_defined_form(form):
-    return _begins(form, "defined") and _are_couples(form, is_name, _is_term_form)
+    return begins_with(form, "defined") and _are_couples(form, is_name, _is_term_form)
 
 
 def _is_program_form(form):
-    if not _begins(form, "program") or len(form) != 4:
+    if not begins_with(form, "program") or len(form) != 4:
         return False
     return _is_heads_form(form[1]) and _is_defined_form(form[2]) and _is_term_form(form[3])
 

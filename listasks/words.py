@@ -15,22 +15,23 @@ from listasks.walks import fold
 MOST_TUPLES = 40
 
 
+def begins_with(form, word):
+    """Tell whether the form is a tuple that begins with the word."""
+    return isinstance(form, tuple) and len(form) > 0 and form[0] == word
+
+
 def print_form(form):
     return fold(form, _forms_in, _spelling)
 
 
-def _is_quoted(form):
-    return isinstance(form, tuple) and len(form) > 0 and form[0] == "text"
-
-
 def _forms_in(form):
-    if not isinstance(form, tuple) or _is_quoted(form):
+    if not isinstance(form, tuple) or begins_with(form, "text"):
         return ()
     return form
 
 
 def _spelling(form, parts):
-    if _is_quoted(form):
+    if begins_with(form, "text"):
         return '"' + form[1] + '"'
     if isinstance(form, tuple):
         return "(" + " ".join(parts) + ")"

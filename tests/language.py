@@ -516,6 +516,24 @@ def check_imports(readers):
                 todo.extend(needs[module])
 
 
+def is_property(function):
+    return any(isinstance(mark, ast.Name) and mark.id == "property" for mark in function.decorator_list)
+
+
+def check_properties(reader, methods, properties):
+    """A property is read off objects, changes nothing, and calls nothing here."""
+    for name in methods & properties:
+        reader.fault(0, "L5", f"{name} is a method and a property")
+    for node in ast.walk(reader.tree):
+        if isinstance(node, ast.Call) and isinstance(node.func, ast.Attribute) and node.func.attr in properties:
+            reader.fault(node, "L5", f"the property {node.func.attr} is called")
+        if isinstance(node, ast.Attribute) and node.attr in properties and isinstance(node.ctx, ast.Store):
+            reader.fault(node, "L5", f"the property {node.attr} is assigned")
+        if isinstance(node, ast.FunctionDef) and is_property(node):
+            if any(isinstance(inner, (ast.Call, ast.Assign, ast.AugAssign)) for inner in ast.walk(node)):
+                reader.fault(node, "L5", f"the property {node.name} does more than read")
+
+
 def check_folder(names, fault):
     for name in names:
         if not re.fullmatch(r"(__init__|__main__|[a-z][a-z0-9_]*)\.py", name):
@@ -528,12 +546,13 @@ def faults_of(sources):
     """List the faults of a package, given as a dict from names of files to texts."""
     readers = [Reader(name, sources[name]) for name in sorted(sources)]
     methods = set()
+    properties = set()
     generators = set()
     for reader in readers:
         for node in ast.walk(reader.tree):
             if isinstance(node, ast.FunctionDef):
                 if isinstance(reader.above[node], ast.ClassDef):
-                    methods.add(node.name)
+                    (properties if is_property(node) else methods).add(node.name)
                 inner = [part for row in node.body for part in ast.walk(row)]
                 if any(isinstance(part, (ast.Yield, ast.YieldFrom)) for part in inner):
                     generators.add(node.name)
@@ -547,6 +566,7 @@ def faults_of(sources):
         check_names(reader)
         check_reads(reader)
         check_calls(reader, methods, generators)
+        check_properties(reader, methods, properties)
         check_generator_expressions(reader)
         check_sets(reader)
         check_loops(reader)
