@@ -176,6 +176,14 @@ def list_places(kind):
     return tuple(places)
 
 
+def place_around(place):
+    """Return the longest other place that begins the place, or None if none does."""
+    for k in reversed(range(len(place))):
+        if place[k] == "*":
+            return place[:k]
+    return None
+
+
 def ask_count(kind):
     return len(list_places(kind))
 
