@@ -57,12 +57,10 @@ def node_parts(node):
 
 
 def with_node_parts(node, parts):
-    """Return a tuple's like with as many other parts."""
-    word = node[0]
-    if word in _ALONE:
+    """Return a cell, a thing or a tree, but no leaf, with as many other parts."""
+    if not isinstance(node, tuple) or node[0] in _ALONE:
         return node
-    if word == "leaf":
-        return ("leaf", tuple(parts[:-1]), parts[-1])
+    word = node[0]
     if word == "record":
         labels = [label for label, _ in node[1]]
         return ("record", tuple(zip(labels, parts)))
@@ -74,13 +72,14 @@ def with_node_parts(node, parts):
 
 
 def nodes_inside(node):
-    """List the cell, thing or tree and all within it, however deep, in preorder."""
+    """List the cell, thing or tree and all within it, however deep; what is no tuple is left out."""
     found = []
     todo = [node]
     while todo:
         part = todo.pop()
-        found.append(part)
-        todo.extend(node_parts(part)[::-1])
+        if isinstance(part, tuple):
+            found.append(part)
+            todo.extend(node_parts(part))
     return found
 
 

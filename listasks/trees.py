@@ -36,10 +36,8 @@ def _trees_in(tree):
 
 
 def _remade(tree, parts):
-    """Return a tree, no leaf, with these trees within it."""
-    if tree[0] == "for":
-        return for_of(tree[1], parts[0])
-    return parts_of(parts) if tree[0] == "parts" else tree
+    """Return a tree, but no leaf, with these trees within it."""
+    return for_of(tree[1], parts[0]) if tree[0] == "for" else parts_of(parts)
 
 
 def _placed_leaves(tree, depth):
@@ -158,8 +156,8 @@ def _tests_fault(tests):
 
 
 def _is_canonical_within(leaf):
-    """Tell whether the trees within the tests and the thing of a leaf are canonical."""
-    return all([_own_fault(node) is None for node in nodes_inside(leaf)[1:]])
+    """Tell whether a leaf and the trees within its tests and its thing are canonical."""
+    return all([_own_fault(node) is None for node in nodes_inside(leaf)])
 
 
 def rebuilt(tree):
@@ -167,8 +165,9 @@ def rebuilt(tree):
 
 
 def _rebuilt_node(node, parts):
-    if node[0] == "leaf":
+    word = node[0] if isinstance(node, tuple) else ""
+    if word == "leaf":
         return leaf_of(parts[:-1], parts[-1])
-    if node[0] == "for" or node[0] == "parts":
+    if word == "for" or word == "parts":
         return _remade(node, parts)
     return with_node_parts(node, parts)

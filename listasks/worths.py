@@ -167,7 +167,7 @@ def _due_within_thing(thing, kind, heads, tables):
         return None
     if kind[0] == "list":
         return [("tree", thing[1], kind[1], tables)]
-    if kind[0] != "record" or [label for label, _ in thing[1]] != [label for label, _ in kind[1]]:
+    if [label for label, _ in thing[1]] != [label for label, _ in kind[1]]:
         return None
     pairs = list(zip(thing[1], kind[1]))
     return [("thing", part, due, tables) for (_, part), (_, due) in pairs]

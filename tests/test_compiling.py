@@ -78,8 +78,10 @@ class CompilingTest(unittest.TestCase):
         store = staff()
         self.assertEqual(answers_of(questions, store), ANSWERS)
         self.assertEqual(ask_by_rows(questions, store), (ANSWERS, 3))
-        self.assertEqual(answers_of(list(questions), store), ANSWERS)
-        self.assertEqual(ask_by_rows(list(questions), store), (ANSWERS, 3))
+        passed = list(questions)
+        self.assertEqual(answers_of(passed, store), ANSWERS)
+        self.assertEqual(ask_by_rows(passed, store), (ANSWERS, 3))
+        self.assertEqual(tuple(passed), questions)
         self.assertEqual(store, staff())
 
     def test_each_question_is_run_once(self):

@@ -132,7 +132,9 @@ class GatheredTest(unittest.TestCase):
             ("dept", "emp"), (("equal", ("column", 1, "dept"), ("column", 0, "name")),), (("row", 0),), (("row", 1),),
             (("column", 1, "who"),)))
         self.assertEqual(gathered(kind, questions), tree)
-        self.assertEqual(gathered(kind, list(questions)), tree)
+        passed = list(questions)
+        self.assertEqual(gathered(kind, passed), tree)
+        self.assertEqual(tuple(passed), questions)
 
     def test_none(self):
         for text in ("(list int)", "(list (record a (list (list int)) b (list text)))"):
@@ -160,6 +162,12 @@ class GatheredTest(unittest.TestCase):
         self.assertEqual(again, tree_of("(parts (leaf (tests) 1) (leaf (tests) 2))"))
 
 
+# A list with two leaves; in the thing of one of them stands a list with two leaves, in that of the other a list with one.
+INNER = (
+    [(("t",), (A,), (), (PARTS[0], ROWS[0]), ()), ((), (), (), (PARTS[1],), ())],
+    [(("t",), (A, B), (PARTS[0], ROWS[0]), (PARTS[0],), ONE), (("t", "u"), (A,), (PARTS[0], ROWS[0]), (PARTS[1], ROWS[1]), ONE),
+     (("u",), (C,), (PARTS[1],), (ROWS[0],), ONE)],
+)
 # Good families of lists of ints and of lists of lists of ints: the members of each of their questions.
 GOOD = (
     ([],),
@@ -170,14 +178,13 @@ GOOD = (
     ([(("t",), (), (), (ROWS[0], PARTS[0]), ONE), (("t", "t"), (), (), (ROWS[0], PARTS[1], ROWS[1]), ONE)],),
     ([(("t",), (), (), (PARTS[0], ROWS[0], PARTS[0]), ONE), (("t",), (), (), (PARTS[0], ROWS[0], PARTS[1]), ONE),
       ((), (), (), (PARTS[1],), ONE)],),
+    ([(("t", "t"), (), (), (PARTS[0], ROWS[0], ROWS[1], PARTS[0]), ONE), (("t", "t"), (), (), (PARTS[0], ROWS[0], ROWS[1], PARTS[1]), ONE),
+      (("t",), (), (), (PARTS[1], ROWS[0], PARTS[0]), ONE), (("t",), (), (), (PARTS[1], ROWS[0], PARTS[1]), ONE)],),
     ([((), (), (), (), ())], []),
     ([((), (), (), (), ())], [((), (), (), (), ONE)]),
-    ([(("t",), (A,), (), (PARTS[0], ROWS[0]), ()), ((), (), (), (PARTS[1],), ())],
-     [(("t",), (A, B), (PARTS[0], ROWS[0]), (PARTS[0],), ONE), (("t", "u"), (A,), (PARTS[0], ROWS[0]), (PARTS[1], ROWS[1]), ONE),
-      (("u",), (C,), (PARTS[1],), (ROWS[0],), ONE)]),
+    INNER,
     ([(("t",), (A,), (), (PARTS[0], ROWS[0]), ()), ((), (), (), (PARTS[1],), ())], [(("u",), (C,), (PARTS[1],), (ROWS[0],), ONE)]),
 )
-INNER = GOOD[9]
 TRUE_TEST, FALSE_TEST = ("truth", True), ("truth", False)
 # Lists of ints: members that are one change away from good ones.
 FLAT_FAULTS = (
@@ -276,8 +283,10 @@ def with_members(questions, place, members):
 
 class FamilyFaultTest(unittest.TestCase):
     def check(self, kind, questions, fault):
+        passed = list(questions)
         self.assertEqual(family_fault(kind, questions), fault)
-        self.assertEqual(family_fault(kind, list(questions)), fault)
+        self.assertEqual(family_fault(kind, passed), fault)
+        self.assertEqual(tuple(passed), questions)
         if fault is None:
             self.assertEqual(shred(gathered(kind, questions), kind), questions)
         else:

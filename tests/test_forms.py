@@ -60,7 +60,7 @@ NOTHING = (
     ("plus", 1, True), ("plus", 1, ("none",)), ("not", LEAF_FORM), ("not", ("record",)), ("empty",), ("empty", 1),
     ("count", ("none",), ("none",)), ("total", ("list", ("none",))), ("none", 1), ("leaf", ("tests",)),
     ("leaf", ("tests",), 1, 2), ("leaf", (), 1), ("leaf", 1, 1), ("leaf", ("test",), 1), ("leaf", ("tests", ("none",)), 1),
-    ("leaf", ("tests", ("record",)), 1), ("leaf", ("tests",), ("none",)), ("leaf", ("tests",), "a"), ("for", "t"),
+    ("leaf", ("tests", ("record",)), 1), ("leaf", ("tests",), ("none",)), ("leaf", ("tests",), "a"), ("leaves", ("tests",), 1), ("for", "t"),
     ("for", "t", 1), ("for", "t", LEAF_FORM, LEAF_FORM), ("for", "t", ("list", ("none",))), ("parts",),
     ("parts", LEAF_FORM), ("parts", LEAF_FORM, 1), ("record", "a"), ("record", "a", 1, "b"), ("record", "b", 1, "a", 2),
     ("record", "a", 1, "a", 2), ("record", "a", ("none",)), ("list",), ("list", 1), ("list", ("none",), ("none",)),

@@ -100,6 +100,8 @@ class ToldTest(unittest.TestCase):
         self.assertEqual(tuple(key for key, _ in told_rows(tree, choice, self.store)), good)
         bad = ((), (0,), (0, 1), (1, 0), (0, 1, 0, 0), (0, 2, 0), (0, 4, 0), (0, 0, 0), (0, -1, 0), (-1,), (2,), (0, 1, 2),
                (0, 1, -1), (3,), (0, 1, 0, -1), (-2, 1, 0))
+        # True is no number
+        bad += ((0, True, 0), (True,), (0, 1, False))
         for key in bad:
             self.assertIsNone(value_for_key(tree, key, choice, self.store))
         self.assertEqual(value_for_key(tree, (0, 3, 1), choice, self.store), ((("emp", 1), ("emp", 3)), 2))

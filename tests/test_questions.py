@@ -157,6 +157,10 @@ FAULTS = (
     # other lengths, of one of both keys or of both
     ((member(), member(own=ROWS + (PART,))), None),
     ((member(outer=ROWS[:1], own=ROWS[1:]), member()), None),
+    ((member(outer=(PART,)), member()), None),
+    ((member(outer=(PART,)), member(outer=(OTHER,), own=ROWS + (PART,))), None),
+    ((member(own=(OTHER,) + ROWS), member(own=ROWS[:1] + (PART,) + ROWS[1:])), (1, "twice")),
+    ((member(own=ROWS[:1] + (PART,) + ROWS[1:]), member(own=(OTHER,) + ROWS)), (1, "twice")),
     ((member(outer=(PART,), own=ROWS), member(outer=(OTHER,), own=ROWS)), None),
     ((member(outer=(PART,) + ROWS[:1], own=ROWS[1:]), member(outer=(OTHER,), own=ROWS)), None),
     ((member(outer=(PART,), own=ROWS), member(outer=(PART,), own=ROWS)), (1, "twice")),

@@ -17,7 +17,7 @@ from listasks.reading import if_thing, moved_thing, read, read_term, use_functio
 from listasks.rules import RULES
 from listasks.terms import substituted
 from listasks.texts import term_of
-from listasks.trees import leaves_of, tree_fault
+from listasks.trees import leaves_of, rebuilt, tree_fault
 from listasks.words import read_form
 from listasks.worths import thing_fits
 from tests.helping import nested
@@ -84,6 +84,8 @@ READ = (
     ("(equal 1 1)", "(equal 1 1)"),
     ("(less x 1)", "(less (column 0 age) 1)"),
     ("(and c c)", "(and (column 1 boss) (column 1 boss))"),
+    ("(and (less x 1) c)", "(and (less (column 0 age) 1) (column 1 boss))"),
+    ("(and c (less x 1))", "(and (column 1 boss) (less (column 0 age) 1))"),
     ("(and c (truth yes))", "(column 1 boss)"),
     ("(and (truth no) c)", "(truth no)"),
     ("(or c (less x 1))", "(or (column 1 boss) (less (column 0 age) 1))"),
@@ -218,6 +220,13 @@ class FunctionsTest(unittest.TestCase):
             self.assertEqual((items, tables), ((("part", 1), ("row", depth)), ("emp",)))
             self.assertEqual(use_function(first, ("number", 1), depth), ("number", 1))
             self.assertEqual(use_function(second, ("number", 1), depth + 1), thing_of(f"(plus 1 (column {depth} age))"))
+
+    def test_trees_with_functions_are_canonical(self):
+        for text in ("(one (fn y y))", "(for d (table dept) (where (equal (field d name) \"a\") (one (record a (fn y y) b 1))))",
+                     "(join (one (one (fn y y))) (if (less 1 x) (one (one (fn y y))) (none)))"):
+            _, tree = read_at(1, text, [("x", "(column 0 age)")])
+            self.assertIsNone(tree_fault(tree))
+            self.assertEqual(rebuilt(tree), tree)
 
     def test_a_moved_function(self):
         names = [

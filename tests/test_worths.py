@@ -243,7 +243,9 @@ class CellKindTest(unittest.TestCase):
         for text, kind in GOOD_CELLS:
             with self.subTest(text=text):
                 self.assertEqual(cell_kind(cell_of(text), HEADS, ("dept", "emp")), kind)
-                self.assertEqual(cell_kind(cell_of(text), HEADS, ["dept", "emp"]), kind)
+                tables = ["dept", "emp"]
+                self.assertEqual(cell_kind(cell_of(text), HEADS, tables), kind)
+                self.assertEqual(tables, ["dept", "emp"])
 
     def test_bad_cells(self):
         for text, bad in BAD_CELLS:
