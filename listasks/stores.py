@@ -101,7 +101,8 @@ class Store:
         for (_, columns), lot in zip(store.heads, lots):
             if not _lot_fits(columns, lot):
                 raise BadLots()
-        for (table, _), (following, rows) in zip(store.heads, lots):
+        tables = [table for table, _ in store.heads]
+        for table, (following, rows) in zip(tables, lots):
             store._lots[table] = {number: tuple(cells) for number, cells in rows}
             store._follow[table] = following
         return store

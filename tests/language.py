@@ -57,6 +57,7 @@ DOUBLE_METHODS = set(
 )
 AT_ONCE = {"zip", "enumerate", "reversed", "range", "map"}
 VIEWS = {"items", "keys", "values"}
+COPIERS = {"list", "tuple", "dict", "sorted", "range", "len"}
 TAKERS = {"list", "tuple", "dict", "sorted", "sum", "any", "all", "enumerate", "zip", "min", "max"}
 FUNCTIONS = (ast.FunctionDef, ast.Lambda)
 COMPREHENSIONS = (ast.ListComp, ast.SetComp, ast.DictComp, ast.GeneratorExp)
@@ -472,6 +473,59 @@ def check_loops(reader):
                         reader.fault(inner, "L23", f"{held} is modified in its loop")
 
 
+def walked_names(node):
+    """The names whose things, or what stands in them, a loop over the node walks; a copy in it is another thing."""
+    if called(node) in COPIERS and isinstance(node.func, ast.Name):
+        return set()
+    if isinstance(node, ast.Call) and isinstance(node.func, ast.Name):
+        parts = node.args + [keyword.value for keyword in node.keywords]
+    elif isinstance(node, ast.Lambda) or isinstance(node, COMPREHENSIONS):
+        parts = []
+    else:
+        parts = list(ast.iter_child_nodes(node))
+    names = {node.id} if isinstance(node, ast.Name) else set()
+    return names.union(*[walked_names(part) for part in parts])
+
+
+def base_name(node):
+    """The name off which an attribute, an item or a choice of these is read, or None."""
+    while isinstance(node, (ast.Attribute, ast.Subscript)):
+        node = node.value
+    return node.id if isinstance(node, ast.Name) else None
+
+
+def changed_names(rows):
+    """List (name, node) of what these rows change, by its name, a field, an item or a call that modifies."""
+    found = []
+    for inner in [node for row in rows for node in ast.walk(row)]:
+        if isinstance(inner, (ast.Name, ast.Attribute, ast.Subscript)) and isinstance(inner.ctx, (ast.Store, ast.Del)):
+            found.append((base_name(inner), inner))
+        if isinstance(inner, ast.Call) and isinstance(inner.func, ast.Attribute):
+            if inner.func.attr in CHANGING | {"sort", "add", "discard"}:
+                found.append((base_name(inner.func.value), inner))
+    return found
+
+
+def check_walked(reader):
+    """Where objects can be iterated over, what a loop's head names is not changed in the loop."""
+    for node in ast.walk(reader.tree):
+        if called(node) in ("extend", "update") and isinstance(node.func, ast.Attribute):
+            if node.args and base_name(node.func.value) in walked_names(node.args[0]):
+                reader.fault(node, "L5", f"{node.func.attr} gets what it changes")
+        if isinstance(node, ast.For):
+            walked = walked_names(node.iter)
+            for name, inner in changed_names(node.body):
+                if name in walked:
+                    reader.fault(inner, "L5", f"{name}, which a loop around walks, is changed in it")
+        if isinstance(node, COMPREHENSIONS):
+            walked = set().union(*[walked_names(part.iter) for part in node.generators])
+            rows = [part for part in ast.iter_child_nodes(node) if not isinstance(part, ast.comprehension)]
+            rows.extend(test for part in node.generators for test in part.ifs)
+            for name, inner in changed_names(rows):
+                if name in walked:
+                    reader.fault(inner, "L5", f"{name}, which a comprehension walks, is changed in it")
+
+
 def check_lambdas(reader):
     seen = {}
     for node in ast.walk(reader.tree):
@@ -570,6 +624,8 @@ def faults_of(sources):
         check_generator_expressions(reader)
         check_sets(reader)
         check_loops(reader)
+        if any("__iter__" in other.text for other in readers):
+            check_walked(reader)
         check_lambdas(reader)
     return [fault for reader in readers for fault in reader.faults]
 

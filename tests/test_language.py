@@ -51,6 +51,43 @@ class ReaderTest(unittest.TestCase):
             with self.subTest(text=text):
                 self.assertIn(rule, rules_of(text))
 
+    def test_what_a_loop_walks_is_not_changed_in_it(self):
+        walked = "class A:\n    def __iter__(self):\n        return iter(self.rows)\n"
+        bad = (
+            "for x in zip(a.rows, b):\n        a.lots[x] = 1",
+            "for x in zip(b, a.rows):\n        del a.lots[x]",
+            "for x in a:\n        a.rows = x",
+            "for x in a.rows:\n        a.rows.append(x)",
+            "for x in a.rows:\n        a.marks[0].n += 1",
+            "for x in a:\n        a = x",
+            "for x in a if b else c:\n        c.pop()",
+            "for x in a or c:\n        if x:\n            c.clear()",
+            "for x in enumerate(reversed(a[0])):\n        a[1].add(x)",
+            "for x in a.rows.items():\n        a.rows[x] = 1",
+            "for x in steps(b, a):\n        a.n = 1",
+            "b = [a.pop() for x in a]",
+            "b = [x for x in b for y in a if a.pop()]",
+            "a.rows.extend(a)",
+        )
+        good = (
+            "for x in list(a.rows):\n        a.lots[x] = 1",
+            "for x in sorted(a):\n        a.rows = x",
+            "for x in range(len(a)):\n        a[x] = 1",
+            "for x in a.rows:\n        b.rows.append(x)",
+            "for x in zip(b, list(a)):\n        x.n = a",
+            "b = [c.pop() for x in a]",
+            "a.extend(list(a))",
+        )
+        for rows in bad:
+            with self.subTest(rows=rows):
+                text = f"\n\ndef f(a, b, c):\n    {rows}\n"
+                self.assertIn("L5", rules_of(walked + text))
+                self.assertIn("L5", rules_of(walked, text.lstrip()))
+                self.assertNotIn("L5", rules_of(text.lstrip()))
+        for rows in good:
+            with self.subTest(rows=rows):
+                self.assertNotIn("L5", rules_of(walked + f"\n\ndef f(a, b, c):\n    {rows}\n"))
+
     def test_two_files_do_not_import_from_each_other(self):
         one = "from listasks.part1 import g\n\n\ndef f(x):\n    return g(x)\n"
         two = "from listasks.part0 import f\n\n\ndef g(x):\n    return f(x)\n"
