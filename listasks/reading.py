@@ -288,7 +288,7 @@ def _table_tree(table, scope):
 
 def read_term(heads, term, names, depth):
     # a function's thing keeps them, and no list that was passed may be kept
-    kept = tuple([(table, tuple(columns)) for table, columns in heads])
+    kept = tuple([(table, columns_of(heads, table)) for table, _ in heads])
     entries = tuple([(name, thing, at, ()) for name, thing, at in names])
     return Reading(("read", term, Scope(kept, entries, depth))).run()
 

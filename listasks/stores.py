@@ -46,11 +46,16 @@ def _ordered(columns):
     return tuple(sorted([(column, kind) for column, kind in columns]))
 
 
-def columns_of(heads, table):
+def _columns_in(heads, table):
     for name, columns in heads:
         if name == table:
             return columns
     raise NoTable(table)
+
+
+def columns_of(heads, table):
+    # heads may be made of lists, and none that was passed may be returned
+    return tuple([(column, kind) for column, kind in _columns_in(heads, table)])
 
 
 def row_kind(heads, table):
@@ -108,7 +113,7 @@ class Store:
         return store
 
     def put(self, table, cells):
-        at = _bad_cell(columns_of(self.heads, table), cells)
+        at = _bad_cell(_columns_in(self.heads, table), cells)
         if at is not None:
             raise BadRow(at)
         number = self._follow[table]
@@ -123,22 +128,22 @@ class Store:
 
     def _cells_of(self, table, number):
         """Return the cells of one row (NoTable, NoRow)."""
-        columns_of(self.heads, table)
+        _columns_in(self.heads, table)
         if not is_integer(number) or number not in self._lots[table]:
             raise NoRow(table, number)
         return self._lots[table][number]
 
     def rows_of(self, table):
-        columns_of(self.heads, table)
+        _columns_in(self.heads, table)
         return tuple(self._lots[table].items())
 
     def following(self, table):
-        columns_of(self.heads, table)
+        _columns_in(self.heads, table)
         return self._follow[table]
 
     def cell_at(self, table, number, column):
         cells = self._cells_of(table, number)
-        for at, (name, _) in enumerate(columns_of(self.heads, table)):
+        for at, (name, _) in enumerate(_columns_in(self.heads, table)):
             if name == column:
                 return cells[at]
         raise NoColumn(column)

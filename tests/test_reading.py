@@ -177,9 +177,34 @@ class TermsTest(unittest.TestCase):
         self.assertEqual((names, heads), ([["x", ("number", 1), 0]], [["dept", [["name", "text"]]]]))
         names[0][1] = ("number", 2)
         names.clear()
+        heads[0][1][0][0] = "other"
+        self.assertEqual(use_function(function, ("number", 5), 0), thing_of("(list (for dept (leaf (tests) (plus 1 5))))"))
         heads[0][1].clear()
         heads.clear()
         self.assertEqual(use_function(function, ("number", 5), 0), thing_of("(list (for dept (leaf (tests) (plus 1 5))))"))
+
+    def test_heads_of_lists_may_be_spoilt(self):
+        def spoil_column(heads):
+            heads[0][1][0][0] = "other"
+
+        def spoil_kind(heads):
+            heads[0][1][0][1] = "int"
+
+        def spoil_columns(heads):
+            heads[0][1][0] = ["other", "text"]
+
+        def spoil_table(heads):
+            heads[0][0] = "other"
+
+        for spoil in (spoil_column, spoil_kind, spoil_columns, spoil_table):
+            heads = [["dept", [["name", "text"]]]]
+            function = read_term(heads, ("fn", "y", ("table", "dept")), [], 0)
+            either = if_thing(("column", 0, "boss"), function, read_term(heads, ("fn", "y", ("none",)), [], 1), 1)
+            spoil(heads)
+            row = "(record name (column {} name))"
+            self.assertEqual(use_function(function, ("number", 1), 0), thing_of(f"(list (for dept (leaf (tests) {row.format(0)})))"))
+            self.assertEqual(use_function(either, ("number", 1), 1),
+                             thing_of(f"(list (for dept (leaf (tests (column 0 boss)) {row.format(1)})))"))
 
     def test_the_example(self):
         program = Program([("emp", [("dept", "text"), ("who", "text")])], [],

@@ -66,6 +66,10 @@ class HeadsTest(unittest.TestCase):
         for table in ("who", "", None):
             self.assertEqual(refusal(columns_of, HEADS, table), ("NoTable", table))
             self.assertEqual(refusal(row_kind, HEADS, table), ("NoTable", table))
+        lists = listed(HEADS)
+        told = columns_of(lists, "emp"), row_kind(lists, "emp")
+        lists[1][1][0][0] = "other"
+        self.assertEqual(told, (HEADS[1][1], ("record", HEADS[1][1])))
 
 
 class StoreTest(unittest.TestCase):
