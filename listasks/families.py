@@ -2,7 +2,7 @@
 
 from listasks.cells import cell_text, is_row_of_tests, merged_tests, node_parts, with_node_parts
 from listasks.errors import BadFamily
-from listasks.kinds import ask_count, flat_paths, is_base, kind_at, list_places, place_around
+from listasks.kinds import ask_count, fields_at, flat_paths, is_base, kind_at, list_places, place_around
 from listasks.members import has_all_rows
 from listasks.shredding import moved_tests
 from listasks.trees import NONE
@@ -220,16 +220,10 @@ def _leaf_of_member(kind, place, member, around, trees):
     rest = list(member.cells[::-1])
     thing = fold(
         (kind_at(kind, place + ("*",)), place + ("*",)),
-        _fields_of,
+        fields_at,
         lambda spot, parts: _thing_made(spot, parts, rest, member.whole, trees),
     )
     return ("leaf", tests, thing)
-
-
-def _fields_of(spot):
-    """Return the (kind, steps to it) of the fields of a record, none of another kind."""
-    kind, steps = spot
-    return [(part, steps + (label,)) for label, part in kind[1]] if kind[0] == "record" else ()
 
 
 def _thing_made(spot, parts, rest, whole, trees):

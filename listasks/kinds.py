@@ -208,6 +208,12 @@ def _kind_behind(kind, step):
     return None
 
 
+def fields_at(spot):
+    """Return the (kind, steps to it) of the fields of a record, none of another kind."""
+    kind, steps = spot
+    return [(part, steps + (label,)) for label, part in kind[1]] if kind[0] == "record" else ()
+
+
 def flat_paths(kind):
     paths = []
     todo = [((), kind)]

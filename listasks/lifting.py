@@ -3,6 +3,8 @@
 from listasks.cells import merged_tests, node_parts, nodes_inside, with_node_parts
 from listasks.walks import fold
 
+_OVER_TREES = ("empty", "count", "total")
+
 
 def lifted_cell(cell, depth, by):
     return lifted_with(cell, depth, by, None)
@@ -38,6 +40,11 @@ def rows_spoken(cell, depth):
         if node[0] == "column" and node[1] < depth:
             rows.add(node[1])
     return tuple(sorted(rows))
+
+
+def has_sub_question(cell):
+    """Tell whether "empty", "count" or "total" occurs in a cell."""
+    return any([node[0] in _OVER_TREES for node in nodes_inside(cell)])
 
 
 def tables_within(cell):

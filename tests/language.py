@@ -584,7 +584,9 @@ def check_properties(reader, methods, properties):
         if isinstance(node, ast.Attribute) and node.attr in properties and isinstance(node.ctx, ast.Store):
             reader.fault(node, "L5", f"the property {node.attr} is assigned")
         if isinstance(node, ast.FunctionDef) and is_property(node):
-            if any(isinstance(inner, (ast.Call, ast.Assign, ast.AugAssign)) for inner in ast.walk(node)):
+            inner = list(ast.walk(node))
+            calls = [called(part) for part in inner if isinstance(part, ast.Call)]
+            if calls != ["len"] * len(calls) or any(isinstance(part, (ast.Assign, ast.AugAssign)) for part in inner):
                 reader.fault(node, "L5", f"the property {node.name} does more than read")
 
 

@@ -46,6 +46,16 @@ FUNCTIONS = {
     "flatrun": """row_of_member(member, choice, store) rows_in_order(rows) run_member(member, store) run_plain(question, store)
         run_under(question, outer, store) tables_named(question)""",
     "compiling": "questions_of(program) answers_of(questions, store) ask_by_rows(questions, store)",
+    "judge": "matches_of(member, r, taken) judge_plan(member, plan)",
+    "plans": """plain_plan(member) all_plans(member) plan_for(member, sizes) changed_plan(member, plan, change)
+        way_to_plain(member, plan) way_between(member, one, other)""",
+    "planrun": """sizes_of(store) most_touched(member, plan, sizes) states_of(member, plan, store) run_plan(member, plan, store)
+        plans_for(question, sizes) run_question(question, plans, store)""",
+    "stitching": """around_of(kind) with_keys(answers) ids_fault(kind, answers) stitch(kind, answers)
+        thing_at(kind, answers, place, own) laid_out(kind, value) paired_rows(kind, one, other) parted_rows(kind, one, other)""",
+    "streams": "merged_rows(answers) stream(kind, answers)",
+    "numbering": """numbering_fault(kind, answers, numbering) even_numbers(kind, answers, *, first=1, step=1)
+        numbered_answers(kind, answers, numbering)""",
 }
 # The methods that each class defines itself, its parameters being those of __init__; "!" marks properties.
 CLASSES = {
@@ -54,12 +64,15 @@ CLASSES = {
     "programs": {"Program": "__init__(heads, definitions, asking) __eq__(other)"},
     "members": {"Member": "__init__(tables, tests, outer, own, cells) whole!() __eq__(other)",
                 "FlatQuestion": "__init__(place, members) __eq__(other) __iter__()"},
+    "planrun": {"PlanRun": "__init__(rows, counts, touched) __eq__(other)"},
+    "streams": {"Stitcher": "__init__(kind) push(place, row) finish() open_rows!() is_done!()"},
 }
 VALUES = {
     "cells": {"TRUE": ("truth", True), "FALSE": ("truth", False)},
     "trees": {"NONE": ("none",)},
 }
-GENERATORS = (("chains", "on_steps"), ("worths", "held"))
+GENERATORS = (("chains", "on_steps"), ("worths", "held"), ("plans", "all_plans"), ("planrun", "states_of"),
+              ("streams", "merged_rows"), ("streams", "stream"))
 
 
 def listed(text):
