@@ -45,6 +45,11 @@ def _numbers_told(items, key):
 
 def _rows_with(member, numbers, store):
     """List the rows of the choices that have these numbers and at which all tests are true."""
+    return [row_of_member(member, choice, store) for choice in choices_with(member, numbers, store)]
+
+
+def choices_with(member, numbers, store):
+    """List the choices at which all tests are true and that have the numbers of a dict at its rows."""
     depth = len(member.tables)
     ready = _tests_by_rows(member)
     choices = [()]
@@ -55,7 +60,7 @@ def _rows_with(member, numbers, store):
         if ready[count]:
             rest = (None,) * (depth - count)
             choices = [choice for choice in choices if all_true(ready[count], choice + rest, store)]
-    return [row_of_member(member, choice, store) for choice in choices]
+    return choices
 
 
 def _tests_by_rows(member):

@@ -19,6 +19,7 @@ class Stitcher:
     """What is left of the rows pushed so far: those that are open, and their lists."""
 
     def __init__(self, kind):
+        self.kind = kind
         self._sites = sites_of(kind)
         # the whole value is the list at place 0 of a row around all others, which has the id ()
         self._whole = OpenRow((), (), (0,))

@@ -73,11 +73,11 @@ def store_form(store):
 
 
 def _lot_form(store, table):
-    couples = [(number, _cells_form(cells)) for number, cells in store.rows_of(table)]
+    couples = [(number, cells_form(cells)) for number, cells in store.rows_of(table)]
     return ("rows", store.following(table), *_flat(couples))
 
 
-def _cells_form(cells):
+def cells_form(cells):
     return ("cells", *[_cell_form(cell) for cell in cells])
 
 
@@ -237,14 +237,14 @@ def _is_cell_form(form):
     return is_integer(form) or form == "yes" or form == "no" or begins_with(form, "text")
 
 
-def _is_cells_form(form):
+def is_cells_form(form):
     return begins_with(form, "cells") and all([_is_cell_form(item) for item in form[1:]])
 
 
 def _is_lot_form(form):
     if not begins_with(form, "rows") or len(form) < 2 or not is_integer(form[1]):
         return False
-    return _are_couples(form[1:], is_integer, _is_cells_form)
+    return _are_couples(form[1:], is_integer, is_cells_form)
 
 
 def _built_cell(form):
@@ -253,8 +253,12 @@ def _built_cell(form):
     return form == "yes" if isinstance(form, str) else form[1]
 
 
+def built_cells(form):
+    return tuple([_built_cell(item) for item in form[1:]])
+
+
 def _built_lot(form):
-    rows = [tuple([_built_cell(item) for item in cells[1:]]) for cells in form[3::2]]
+    rows = [built_cells(cells) for cells in form[3::2]]
     return (form[1], tuple(zip(form[2::2], rows)))
 
 

@@ -56,6 +56,19 @@ FUNCTIONS = {
     "streams": "merged_rows(answers) stream(kind, answers)",
     "numbering": """numbering_fault(kind, answers, numbering) even_numbers(kind, answers, *, first=1, step=1)
         numbered_answers(kind, answers, numbering)""",
+    "named": """fits_key(items, key) member_of(question, row) choice_of(member, row) rows_named(question, row)
+        deep_tables(member) is_plain(member) surviving(question, rows, gone) lineage(questions, answers, place, key)""",
+    "kept": "put_rows(member, table, number, store)",
+    "pieces": """pieces_of(program) piece_of(member, heads) constants_of(pieces) standard_asking(program)
+        least_spelling(piece) renaming_fault(one, other, places) renamings_of(one, other) renaming_of(one, other)
+        pair_off(one, other)""",
+    "folds": """maps_into(piece, store) shown_by(piece, store, numbers) count_maps(piece, store, shown) tally_of(pieces, store)
+        foldings_of(piece, constants) folding_fault(piece, constants, folding) folded(piece, constants, folding)
+        images_of(pieces, constants) count_laid(piece, constants, store, shown)""",
+    "sameness": """balance_of(one, other) fresh_values(piece, constants) parting_store(piece, constants, heads)
+        pairs_of(one, other) are_alike(one, other) parting_of(one, other)""",
+    "desk": "check_deed(deed)",
+    "stories": "story_text(heads, deeds) story_of(text) replayed(heads, deeds) shortened(desk)",
 }
 # The methods that each class defines itself, its parameters being those of __init__; "!" marks properties.
 CLASSES = {
@@ -66,13 +79,21 @@ CLASSES = {
                 "FlatQuestion": "__init__(place, members) __eq__(other) __iter__()"},
     "planrun": {"PlanRun": "__init__(rows, counts, touched) __eq__(other)"},
     "streams": {"Stitcher": "__init__(kind) push(place, row) finish() open_rows!() is_done!()"},
+    "kept": {"Change": "__init__(place, gone, come, anew) __eq__(other)",
+             "Kept": "__init__(program, store) put(table, cells) take(table, number) rows_at(place) told_now() store_now() last!()"},
+    "pieces": {"Piece": "__init__(rows, kinds, shown) __eq__(other)"},
+    "sameness": {"Parting": "__init__(store, shown, one_count, other_count) __eq__(other)"},
+    "desk": {"Desk": """__init__(heads) perform(deed) perform_all(deeds, *, keep=True) store_copy() kept_program(name) copied()
+        __eq__(other)"""},
 }
 VALUES = {
     "cells": {"TRUE": ("truth", True), "FALSE": ("truth", False)},
     "trees": {"NONE": ("none",)},
+    "pieces": {"MOST_ROWS": 4},
 }
 GENERATORS = (("chains", "on_steps"), ("worths", "held"), ("plans", "all_plans"), ("planrun", "states_of"),
-              ("streams", "merged_rows"), ("streams", "stream"))
+              ("streams", "merged_rows"), ("streams", "stream"), ("pieces", "renamings_of"), ("folds", "maps_into"),
+              ("folds", "foldings_of"))
 
 
 def listed(text):
@@ -113,6 +134,25 @@ class InterfaceTest(unittest.TestCase):
                             self.assertIsInstance(own[method[:-1]], property)
                         else:
                             self.assertEqual(parameters(own[method]), ["self"] + names)
+
+    def test_attributes_are_named_like_parameters(self):
+        heads, asking = (("t", (("c", "int"),)),), ("table", "t")
+        made = {"Store": (heads,), "Desk": (heads,), "Stitcher": (("list", "int"),), "Program": (heads, (), asking)}
+        program = importlib.import_module("listasks.programs").Program(heads, (), asking)
+        made["Kept"] = (program, importlib.import_module("listasks.stores").Store(heads))
+        for module, classes in CLASSES.items():
+            for name, text in classes.items():
+                own = getattr(importlib.import_module(f"listasks.{module}"), name)
+                names = listed(text)[0][1]
+                given = made.get(name, tuple(range(len(names))))
+                held = own(*given)
+                for attribute, value in zip(names, given):
+                    with self.subTest(name=name, attribute=attribute):
+                        self.assertEqual(vars(held)[attribute], value)
+        desk = vars(importlib.import_module("listasks.desk").Desk(heads))
+        self.assertTrue({"heads", "definitions", "kept_names", "story", "sent"} <= set(desk))
+        kept = vars(importlib.import_module("listasks.kept").Kept(*made["Kept"]))
+        self.assertTrue({"program", "questions"} <= set(kept))
 
     def test_static_method(self):
         store = importlib.import_module("listasks.stores").Store
