@@ -11,7 +11,9 @@ def row_of_member(member, choice, store):
 
 
 def rows_in_order(rows):
-    return tuple(sorted(rows, key=lambda row: (row[0], row[1])))
+    # rows may be made of lists, and none that was passed may be returned
+    kept = [(tuple(outer), tuple(own), tuple(cells)) for outer, own, cells in rows]
+    return tuple(sorted(kept, key=lambda row: (row[0], row[1])))
 
 
 def run_member(member, store):

@@ -12,7 +12,7 @@ def speaks_within(cell, depth, rows):
     return all([row in rows for row in rows_spoken(cell, depth)])
 
 
-def _sides_of(test, row):
+def sides_of(test, row):
     """List (column, fellow) of the sides of a test for a row."""
     if test[0] != "equal":
         return []
@@ -22,15 +22,14 @@ def _sides_of(test, row):
     return [(column, fellow) for column, fellow in sides if not has_sub_question(fellow)]
 
 
-def ready_sides(member, number, row, taken):
-    """List (column, fellow) of the sides of a test for a row whose fellows speak of taken rows alone."""
+def _is_ready(member, test, row, taken):
+    """Tell whether a test has a side for a row whose fellow speaks of taken rows alone."""
     depth = len(member.tables)
-    sides = _sides_of(member.tests[number], row)
-    return [(column, fellow) for column, fellow in sides if speaks_within(fellow, depth, taken)]
+    return any([speaks_within(fellow, depth, taken) for _, fellow in sides_of(test, row)])
 
 
 def matches_of(member, r, taken):
-    return tuple([number for number in range(len(member.tests)) if ready_sides(member, number, r, taken)])
+    return tuple([number for number, test in enumerate(member.tests) if _is_ready(member, test, r, taken)])
 
 
 def judge_plan(member, plan):
@@ -72,13 +71,13 @@ def _step_fault(member, step, taken, used):
     if any([number in used for number in tests]):
         return "used"
     if step[0] == "match":
-        return _match_fault(member, step[1], step[2], taken)
+        return _match_fault(member, member.tests[step[2]], step[1], taken)
     if step[0] == "keep" and not speaks_within(member.tests[step[1]], len(member.tables), taken):
         return "early"
     return None
 
 
-def _match_fault(member, row, number, taken):
-    if not _sides_of(member.tests[number], row):
+def _match_fault(member, test, row, taken):
+    if not sides_of(test, row):
         return "equal"
-    return None if ready_sides(member, number, row, taken) else "early"
+    return None if _is_ready(member, test, row, taken) else "early"

@@ -51,15 +51,15 @@ class Kept:
 
     def put(self, table, cells):
         number = self.store.put(table, cells)
-        self._follow((table, number), True)
+        self._go_along((table, number), True)
         return number
 
     def take(self, table, number):
         cells = self.store.take(table, number)
-        self._follow((table, number), False)
+        self._go_along((table, number), False)
         return cells
 
-    def _follow(self, couple, is_put):
+    def _go_along(self, couple, is_put):
         """Do what is to be done when a row (table, number) has been put, or else taken."""
         changes = []
         for place in range(len(self.questions)):
@@ -79,7 +79,7 @@ class Kept:
                 less, more = _rows_less(before, after), _rows_less(after, before)
             else:
                 less, more = self._difference(member, before, couple, is_put)
-                after = rows_in_order(_rows_less(before, less) + more)
+                after = _rows_less(before, less) + more
             gone.extend(less)
             come.extend(more)
             lots.append(after)

@@ -2,7 +2,7 @@
 
 from listasks.kinds import is_integer
 from listasks.walks import fold
-from listasks.worths import all_true, held, worth
+from listasks.worths import all_true, choice_in_tuples, held, worth
 
 
 def goes_before(one, other):
@@ -52,7 +52,7 @@ def told_values(tree, choice, store):
 
 def value_for_key(tree, key, choice, store):
     node = tree
-    rows = choice
+    rows = choice_in_tuples(choice)
     for item in key:
         if not is_integer(item):
             return None

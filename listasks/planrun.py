@@ -2,7 +2,7 @@
 
 from listasks.errors import BadPlan, BadPlans
 from listasks.flatrun import row_of_member, rows_in_order
-from listasks.judge import judge_plan, ready_sides
+from listasks.judge import judge_plan, sides_of
 from listasks.plans import plan_for
 from listasks.worths import worth
 
@@ -74,8 +74,8 @@ def _state_behind(member, step, state, store):
 def _matched(member, match, numbers, state, store):
     """List the bindings behind a match of a row with one of these numbers."""
     _, row, test = match
-    taken = [at for at, number in enumerate(state[0]) if number is not None]
-    column, fellow = ready_sides(member, test, row, taken)[0]
+    # a test with two sides for the row would be no good match, for each fellow speaks of the row
+    column, fellow = sides_of(member.tests[test], row)[0]
     lots = {}
     for number in numbers:
         cell = store.cell_at(member.tables[row], number, column)

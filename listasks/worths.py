@@ -62,8 +62,13 @@ def all_true(tests, choice, store):
     return True
 
 
+def choice_in_tuples(choice):
+    """Return a choice made of tuples; None stands for a row of which nothing speaks."""
+    return tuple([None if couple is None else tuple(couple) for couple in choice])
+
+
 def held(tree, choice, store):
-    todo = [((), choice, tree)]
+    todo = [((), choice_in_tuples(choice), tree)]
     while todo:
         key, rows, node = todo.pop()
         if node[0] == "leaf":

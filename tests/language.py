@@ -57,6 +57,7 @@ DOUBLE_METHODS = set(
 )
 AT_ONCE = {"zip", "enumerate", "reversed", "range", "map"}
 VIEWS = {"items", "keys", "values"}
+KEPT_ITERATORS = {"iter", "zip", "enumerate", "reversed", "items", "keys", "values"}
 COPIERS = {"list", "tuple", "dict", "sorted", "range", "len"}
 TAKERS = {"list", "tuple", "dict", "sorted", "sum", "any", "all", "enumerate", "zip", "min", "max"}
 FUNCTIONS = (ast.FunctionDef, ast.Lambda)
@@ -517,6 +518,11 @@ def check_walked(reader):
             for name, inner in changed_names(node.body):
                 if name in walked:
                     reader.fault(inner, "L5", f"{name}, which a loop around walks, is changed in it")
+        if isinstance(node, ast.Assign) and called(node.value) in KEPT_ITERATORS:
+            walked = walked_names(node.value)
+            for name, inner in changed_names(reader.function_around(node).body):
+                if name in walked and inner.lineno > node.lineno:
+                    reader.fault(inner, "L5", f"{name}, which a kept iterator walks, is changed in its function")
         if isinstance(node, COMPREHENSIONS):
             walked = set().union(*[walked_names(part.iter) for part in node.generators])
             rows = [part for part in ast.iter_child_nodes(node) if not isinstance(part, ast.comprehension)]
@@ -590,6 +596,23 @@ def check_properties(reader, methods, properties):
                 reader.fault(node, "L5", f"the property {node.name} does more than read")
 
 
+def check_attributes(readers, methods, properties):
+    """No name is a method and an attribute, and what is read off an object is assigned somewhere."""
+    assigned = set(properties)
+    for reader in readers:
+        for node in ast.walk(reader.tree):
+            if isinstance(node, ast.Attribute) and isinstance(node.ctx, ast.Store):
+                assigned.add(node.attr)
+                if node.attr in methods:
+                    reader.fault(node, "L18", f"{node.attr} is a method and an attribute")
+    for reader in readers:
+        for node in ast.walk(reader.tree):
+            if isinstance(node, ast.Attribute) and isinstance(node.ctx, ast.Load) and node.attr not in assigned:
+                above = reader.above[node]
+                if not (isinstance(above, ast.Call) and above.func is node):
+                    reader.fault(node, "L18", f"the attribute {node.attr} is not assigned anywhere")
+
+
 def check_folder(names, fault):
     for name in names:
         if not re.fullmatch(r"(__init__|__main__|[a-z][a-z0-9_]*)\.py", name):
@@ -614,6 +637,7 @@ def faults_of(sources):
                     generators.add(node.name)
     check_folder(sorted(sources), readers[0].fault)
     check_imports(readers)
+    check_attributes(readers, methods, properties)
     for reader in readers:
         check_lines(reader)
         check_nodes(reader)

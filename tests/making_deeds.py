@@ -7,7 +7,8 @@ from tests.making import HEADS, any_asking
 ASKINGS = (
     "(table emp)",
     "(for e (table emp) (where (field e boss) (one (field e who))))",
-    "(for d (table dept) (one (record n (field d name) staff (for e (table emp) (where (equal (field e who) (field d name)) (one (field e age)))))))",
+    "(for d (table dept) (one (record n (field d name) staff (for e (table emp) (where (equal (field e who) (field d name))"
+    " (one (field e age)))))))",
     "(for e (table emp) (one (count (for f (table emp) (where (equal (field f who) (field e who)) (one 1))))))",
     "(if (empty (table dept)) (one \"none\") (for d (table dept) (one (field d name))))",
     "(as (none) (list int))",

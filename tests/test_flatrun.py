@@ -10,7 +10,7 @@ from listasks.shredding import shred
 from listasks.stores import Store
 from listasks.trees import leaf_of
 from tests.flatref import rows_of_member, rows_of_question
-from tests.helping import refusal
+from tests.helping import listed, refusal
 from tests.making import HEADS
 from tests.making_trees import KINDS, any_canonical, any_rows
 
@@ -59,6 +59,12 @@ class RowsTest(unittest.TestCase):
         self.assertEqual(rows_in_order([]), ())
         rows.clear()
         self.assertEqual(len(told), 10)
+        passed = listed(told[::-1])
+        again = rows_in_order(passed)
+        self.assertEqual([row[:2] for row in again], [row[:2] for row in told])
+        passed[0][2][0] = "z"
+        passed[0][1].append(9)
+        self.assertEqual(sorted(again), sorted(told))
 
 
 class RunTest(unittest.TestCase):

@@ -236,6 +236,8 @@ class FoldingsTest(unittest.TestCase):
             (mark, ((0, 1), (u(0), u(1), u(1))), "worths"),
             (mark, ((0, 1), (u(0), u(1), u(0))), None),
             (mark, ((0, 0), (u(0), u(1), u(0))), None),
+            (CHAIN, ((0, 0), (u(0), u(1), None)), "worths"),
+            (CHAIN, ((1, 0), (u(0), u(1), u(2))), "rows"),
             (mark, ((0, 0), (u(0), u(1), u(2))), "block"),
             (mark, ((0, 0), (A, u(0), B)), "block"),
             (CHAIN, ((0, 0), (u(0), u(1), u(2))), "block"),

@@ -8,7 +8,7 @@ from listasks.keys import goes_before, key_begins, key_from, told_rows, told_val
 from listasks.stores import Store
 from listasks.trees import NONE, for_of, leaf_of, leaves_of, parts_of
 from listasks.worths import held
-from tests.helping import nested
+from tests.helping import listed, nested
 from tests.making import HEADS
 from tests.making_trees import KINDS, any_canonical, any_choice, any_rows, any_thing
 from tests.treesref import canonical, leaves_held, told
@@ -125,6 +125,10 @@ class ToldTest(unittest.TestCase):
             self.assertEqual(told_values(tree, choice, store), [value for _, value in rows])
             thing = canonical(any_thing(chance, kind, tables, 3))
             self.assertEqual(value_of(thing, choice, store), told(thing, choice, store))
+            passed = listed(choice)
+            self.assertEqual((told_rows(tree, passed, store), told_values(tree, passed, store), value_of(thing, passed, store)),
+                             (rows, [value for _, value in rows], told(thing, choice, store)))
+            self.assertEqual(passed, listed(choice))
             self.assertEqual(store, before)
             self.check_keys(tree, choice, store, dict(rows))
 
@@ -140,6 +144,7 @@ class ToldTest(unittest.TestCase):
         for key in itertools.chain(keys, some, more):
             due = (choices[key], rows[key]) if key in rows else None
             self.assertEqual(value_for_key(tree, key, choice, store), due)
+            self.assertEqual(value_for_key(tree, key, listed(choice), store), due)
 
     def test_deep_things(self):
         thing = nested(900, lambda part: ("list", leaf_of((), part)), ("number", 1))

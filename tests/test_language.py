@@ -46,6 +46,8 @@ class ReaderTest(unittest.TestCase):
             ("def f(x):\n" + "    x = x + 1\n" * 40, "L10"),
             ("class A:\n    @property\n    def many(self):\n        return sum(self.rows)\n", "L5"),
             ("class A:\n    @property\n    def many(self):\n        return self.x\n\n\ndef f(a):\n    return a.many()\n", "L5"),
+            ("class A:\n    def f(self):\n        return 1\n\n\nclass B:\n    def __init__(self):\n        self.f = 1\n", "L18"),
+            ("def f(a):\n    return a.many\n", "L18"),
         )
         for text, rule in cases:
             with self.subTest(text=text):
@@ -68,6 +70,8 @@ class ReaderTest(unittest.TestCase):
             "b = [a.pop() for x in a]",
             "b = [x for x in b for y in a if a.pop()]",
             "a.rows.extend(a)",
+            "b = iter(a.rows)\n    a.rows.append(c)\n    return next(b, None)",
+            "b = enumerate(a)\n    for x in b:\n        a[0] = x",
         )
         good = (
             "for x in list(a.rows):\n        a.lots[x] = 1",
@@ -77,6 +81,7 @@ class ReaderTest(unittest.TestCase):
             "for x in zip(b, list(a)):\n        x.n = a",
             "b = [c.pop() for x in a]",
             "a.extend(list(a))",
+            "a.n = 1\n    b = iter(a.rows)\n    return next(b, None)",
         )
         for rows in bad:
             with self.subTest(rows=rows):

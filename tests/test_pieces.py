@@ -251,12 +251,17 @@ class RenamingsTest(unittest.TestCase):
             (CHAIN, TURNED, (0, 1), "worth"),
             (CHAIN, CHAIN, (0, 1), None),
             (CHAIN, CHAIN, (1, 0), "worth"),
+            # the first of several faults
+            (one, Piece((("edge", (B, B)), ("edge", (u(0), A))), other.kinds, ()), (0, 1), "table"),
+            (one, Piece((other.rows[0], ("edge", (B, B))), other.kinds, ()), (1, 0), "worth"),
+            (one, Piece((other.rows[0], ("edge", (B, B))), other.kinds, ()), (0, 0), "rows"),
             # two unknowns onto one, and one onto two
             (Piece((("edge", (u(0), u(1))),), (), ()), Piece((("edge", (u(0), u(0))),), (), ()), (0,), "worth"),
             (Piece((("edge", (u(0), u(0))),), (), ()), Piece((("edge", (u(0), u(1))),), (), ()), (0,), "worth"),
             # one-to-one over all rows together
             (Piece((("edge", (u(0), u(1))), ("edge", (u(2), u(3)))), (), ()),
              Piece((("edge", (u(0), u(1))), ("edge", (u(1), u(2)))), (), ()), (0, 1), "worth"),
+            (Piece((("t", (u(0),)),), (), ()), Piece((("t", (u(0), u(1))),), (), ()), (0,), "worth"),
             (Piece((), (), (A,)), Piece((), (), (A,)), (), None),
             (Piece((), (), (A,)), Piece((), (), (B,)), (), "shown"),
             (Piece((("on", ()), ("on", ())), (), ()), Piece((("on", ()), ("on", ())), (), ()), (1, 0), None),

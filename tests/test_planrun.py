@@ -228,6 +228,7 @@ class TouchedTest(unittest.TestCase):
         three = Member(("dept", "emp", "dept"), (SAME, ("equal", NAME, ("column", 2, "name"))), (), (), ())
         self.assertEqual(most_touched(three, (("take", 0), ("match", 1, 0), ("match", 2, 1)), sizes), 2 + 3 + 2)
         self.assertEqual(most_touched(three, (("take", 1), ("match", 0, 0), ("take", 2), ("keep", 1)), sizes), 3 + 2 + 12)
+        self.assertEqual(most_touched(three, (("take", 0), ("take", 1), ("keep", 0), ("take", 2), ("keep", 1)), sizes), 2 + 6 + 12)
 
     def test_never_more(self):
         chance = random.Random(222)

@@ -8,7 +8,7 @@ from listasks.forms import cell_of_form, thing_of_form, tree_of_form
 from listasks.stores import Store
 from listasks.words import read_form
 from listasks.worths import cell_kind, held, thing_fits, worth
-from tests.helping import nested, refusal
+from tests.helping import listed, nested, refusal
 from tests.making import HEADS
 from tests.making_trees import KINDS, TABLES, any_canonical, any_cell, any_choice, any_rows, any_thing
 from tests.treesref import leaves_held, value_at
@@ -115,6 +115,7 @@ class WorthTest(unittest.TestCase):
                 cell = any_cell(chance, chance.choice(("int", "text", "truth")), tables, 4)
                 before = store.copied()
                 self.assertEqual(worth(cell, choice, store), value_at(cell, choice, store))
+                self.assertEqual(worth(cell, listed(choice), store), value_at(cell, choice, store))
                 self.assertEqual(store, before)
 
     def test_deep_cells(self):
@@ -164,6 +165,16 @@ class HeldTest(unittest.TestCase):
             tree = any_canonical(chance, chance.choice(KINDS))
             store = any_rows(chance)
             self.assertEqual(list(held(tree, (), store)), leaves_held(tree, (), store))
+            self.assertEqual(list(held(tree, [], store)), leaves_held(tree, (), store))
+
+    def test_choices_of_lists(self):
+        tree = tree_of("(for emp (leaf (tests (equal (column 0 name) \"a\")) (column 2 age)))")
+        choice = [["dept", 1], None]
+        told = list(held(tree, choice, self.store))
+        self.assertEqual(choice, [["dept", 1], None])
+        choice[0][1] = 9
+        self.assertEqual(told, leaves_held(tree, (("dept", 1), None), self.store))
+        self.assertEqual(len(told), 3)
 
     def test_deep_trees(self):
         tree = nested(3000, lambda part: ("for", "dept", part), ("leaf", (), ("number", 1)))
