@@ -9,8 +9,8 @@ from listasks.lifting import lifted_cell
 from listasks.trees import NONE, for_of, graft, leaf_of, leaves_of, parts_of, rebuilt, tree_fault, when, without_things
 from listasks.words import read_form
 from tests.helping import nested
-from tests.making_trees import KINDS, TABLES, any_canonical, any_cell, any_rows, any_thing, any_tree
-from tests.treesref import all_leaves, canonical, inner, is_canonical, leaves_held, lifted, spelled, told
+from tests.making_trees import KINDS, TABLES, any_canonical, any_cell, any_rows, any_tree
+from tests.treesref import all_leaves, canonical, inner, is_canonical, lifted, spelled, told
 
 ONE = ("number", 1)
 TWO = ("number", 2)
