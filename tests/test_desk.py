@@ -203,6 +203,17 @@ class DeedsTest(unittest.TestCase):
         for number in range(5):
             perform(("define", f"f{number}", ("none",)))
         self.assertEqual(refusal(perform, ("define", "f9", ("none",))), ("BadProgram", "many"))
+        # the first of several: the deed's own faults, Known, then the errors of Program in their order
+        for deed, due in (
+            (("define", "dup", ("number", True)), ("BadTerm", (), "value")),
+            (("define", "dup", ("fn", "two", ("name", "nobody"))), ("Known", "dup")),
+            (("define", "v2", ("fn", "two", ("name", "nobody"))), ("BadProgram", "many")),
+            (("ask", ("fn", "two", ("name", "nobody"))), ("BadProgram", "bound")),
+            (("ask", ("plus", ("one", ("number", 1)), ("name", "nobody"))), ("Unknown", 8, (1,), "nobody")),
+            (("ask", ("one", ("plus", ("none",), ("number", 1)))), ("Misfit", 8, (0,))),
+            (("ask", ("plus", ("number", 1), ("number", 1))), ("NoAnswer",)),
+        ):
+            self.assertEqual(refusal(perform, deed), due)
         self.assertEqual(len(self.desk.definitions), 8)
         self.assertEqual(self.desk.sent, ())
 
